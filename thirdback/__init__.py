@@ -1,0 +1,1 @@
+"""Thirdback: boxes made of two others by a rule nobody knows."""

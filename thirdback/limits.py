@@ -1,0 +1,18 @@
+"""The greatest numbers that the program takes, each named after what it counts."""
+
+MOST_OPERATIONS = 8
+MOST_FACTS = 4
+MOST_FORMULAS = 6
+MOST_THINGS = 600
+MOST_ROWS = 12
+MOST_TESTS = 4
+MOST_BOXES = 8
+MOST_SIDE = 3
+MOST_INNER = 6
+MOST_TRIPLES = 8
+MOST_STORED = 6
+MOST_CELLS = 200
+MOST_LOST = 9
+MOST_CHANGES = 6
+MOST_TRIALS = 4096
+MOST_GROWN = 40
