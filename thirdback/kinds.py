@@ -1,6 +1,6 @@
 """Kinds of rules: the turns under which the triples of a rule stay triples of it."""
 
-from thirdback.checks import is_integer
+from thirdback.checks import is_triple
 from thirdback.errors import InvalidFlag, InvalidText, InvalidTriple, InvalidTurns, NotAKind
 
 # Smaller lots stand ahead of larger ones: _least_lot relies on it.
@@ -12,6 +12,9 @@ LOTS = {
     "round": ((0, 1, 2), (1, 2, 0), (2, 0, 1)),
     "all": ((0, 1, 2), (0, 2, 1), (1, 0, 2), (1, 2, 0), (2, 0, 1), (2, 1, 0)),
 }
+
+# For each place of a triple the two others.
+OTHERS = ((1, 2), (0, 2), (0, 1))
 
 _CALM = "calm "
 
@@ -54,7 +57,7 @@ class Kind:
 
     def images(self, triple):
         """The ascending tuple of all different images of a triple of integers."""
-        if not _is_triple(triple):
+        if not is_triple(triple):
             raise InvalidTriple(triple)
         return tuple(sorted({(triple[i], triple[j], triple[k]) for i, j, k in self.lot}))
 
@@ -87,11 +90,6 @@ def check_kind(kind):
     """Raises NotAKind for anything but a Kind."""
     if not isinstance(kind, Kind):
         raise NotAKind(kind)
-
-
-def _is_triple(value):
-    """Whether it is a tuple of three integers."""
-    return isinstance(value, tuple) and len(value) == 3 and all([is_integer(thing) for thing in value])
 
 
 def _holds(lot, turns):
