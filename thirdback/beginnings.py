@@ -168,7 +168,8 @@ def _key(one, other):
 
 def _completed(tables, triple):
     """The thing that belongs where this triple has None; None if there is no such triple."""
-    place = triple.index(None)
+    # Looked for by hand: `index` is also an attribute of errors, and operators get here.
+    place = min([at for at in range(3) if triple[at] is None])
     one, other = OTHERS[place]
     return tables[place].get(_key(triple[one], triple[other]))
 
