@@ -157,18 +157,23 @@ def classes(kind, facts, trees):
     """The closed table of point 10: a dict from each part to one of the parts that are equal to it."""
     trees = list(trees) + [side for fact in facts for side in fact]
     parts = {part for tree in trees for part in parts_of(tree)}
-    triples = with_images(kind, [operation_triple(part) for part in parts if not isinstance(part, str)])
+    return closed(kind, parts, [operation_triple(part) for part in parts if not isinstance(part, str)], facts)
+
+
+def closed(kind, things, triples, equal):
+    """A dict from each thing to one of the things that are equal to it in the closed table of these triples."""
+    triples = with_images(kind, triples)
     if kind.calm:
-        triples |= {(part, part, part) for part in parts}
-    same = {part: part for part in parts}
+        triples |= {(thing, thing, thing) for thing in things}
+    same = {thing: thing for thing in things}
 
     def join(one, other):
         old, new = same[one], same[other]
-        for part in parts:
-            if same[part] == old:
-                same[part] = new
+        for thing in things:
+            if same[thing] == old:
+                same[thing] = new
 
-    for one, other in facts:
+    for one, other in equal:
         join(one, other)
     while True:
         clash = _one_clash(triples, same)
@@ -198,12 +203,17 @@ def got(kind, facts, kept, wanted):
     """Whether the wanted formula is got in the closed table of point 11."""
     same = classes(kind, facts, tuple(kept) + (wanted,))
     triples = [tuple(same[part] for part in operation_triple(tree)) for tree in same if not isinstance(tree, str)]
-    found = {same[tree] for tree in kept}
+    return same[wanted] in all_got(triples, [same[tree] for tree in kept])
+
+
+def all_got(triples, kept):
+    """The set of the things that are got from the kept ones."""
+    found = set(kept)
     while True:
         more = {t[place] for t in triples for place in range(3)
                 if all(t[at] in found for at in range(3) if at != place)} - found
         if not more:
-            return same[wanted] in found
+            return found
         found |= more
 
 

@@ -112,6 +112,15 @@ def is_thing(size, value):
     return is_integer(value) and 0 <= value < size
 
 
+def signed_value(beginning, sign, left, right):
+    """What the sign makes of these two things, None if it is not known."""
+    if sign == "*":
+        return beginning(left, right)
+    if sign == "//":
+        return beginning.first(left, right)
+    return beginning.second(left, right)
+
+
 def check_beginning(beginning):
     """Raises NotABeginning for anything but a Beginning."""
     if not isinstance(beginning, Beginning):

@@ -1,11 +1,11 @@
 """What follows from facts in all rules of a kind: what is alike, and what is told."""
 
-from thirdback.beginnings import check_beginning
+from thirdback.beginnings import check_beginning, signed_value
 from thirdback.errors import NotWhole, TooMany
 from thirdback.formulas import check_facts, check_formula, check_formulas, step_to
 from thirdback.kinds import check_kind
 from thirdback.limits import MOST_TRIALS
-from thirdback.tables import Table, all_parts
+from thirdback.tables import Table, all_parts, needed_things
 
 
 def follows(kind, facts, one, other):
@@ -68,7 +68,7 @@ def recipe(kind, facts, kept, wanted):
     for index, formula in enumerate(kept):
         items.setdefault(table.thing(formula), index)
     steps = []
-    for thing in _needed(how, goal):
+    for thing in needed_things(how, goal):
         place, triple = how[thing]
         sign, one, other = step_to(place, triple)
         items[thing] = len(kept) + len(steps)
@@ -121,30 +121,19 @@ def _telling_table(kind, facts, kept, wanted):
     return Table(kind, facts, (*kept, wanted))
 
 
-def _needed(how, goal):
-    """The things that are to be made on the way to the goal, each behind those that it is made of."""
-    needed = {goal: True}
-    for thing in reversed(list(how)):
-        if thing in needed and how[thing] is not None:
-            place, triple = how[thing]
-            for at in range(3):
-                if at != place:
-                    needed[triple[at]] = True
-    return [made for made in how if made in needed and how[made] is not None]
-
-
 def _columns(beginning, formulas):
     """For the text of each part of the formulas its values with all contents, always in one order."""
     parts = all_parts(formulas)
-    trials = _trials(beginning.size, len([name for name in parts if parts[name].name is not None]))
+    trials = _trials(beginning.size, len([part for part in parts if part.name is not None]))
     columns = {}
     weight = 1
-    for text, part in parts.items():
+    for part in parts:
         if part.name is not None:
-            columns[text] = [trial // weight % beginning.size for trial in range(trials)]
+            columns[part.name] = [trial // weight % beginning.size for trial in range(trials)]
             weight = weight * beginning.size
         else:
-            columns[text] = _column(beginning, part.sign, columns[str(part.left)], columns[str(part.right)])
+            lefts, rights = columns[str(part.left)], columns[str(part.right)]
+            columns[str(part)] = [signed_value(beginning, part.sign, left, right) for left, right in zip(lefts, rights)]
     return columns
 
 
@@ -156,12 +145,3 @@ def _trials(size, letters):
     if trials > MOST_TRIALS:
         raise TooMany(MOST_TRIALS)
     return trials
-
-
-def _column(beginning, sign, lefts, rights):
-    """The values of an operation, from those of its two sides."""
-    if sign == "*":
-        return [beginning(left, right) for left, right in zip(lefts, rights)]
-    if sign == "//":
-        return [beginning.first(left, right) for left, right in zip(lefts, rights)]
-    return [beginning.second(left, right) for left, right in zip(lefts, rights)]

@@ -4,7 +4,7 @@ from thirdback.checks import is_name
 from thirdback.errors import InvalidFacts, InvalidFormulas, InvalidName, InvalidText, NotAFormula, TooMany
 from thirdback.limits import MOST_FACTS, MOST_FORMULAS, MOST_OPERATIONS
 
-_SIGNS = ("*", "//", ">>")
+SIGNS = ("*", "//", ">>")
 
 
 def letter(name):
@@ -190,6 +190,6 @@ def _closed(words):
     if len(words) != 5:
         return None
     start, left, sign, right, _ = words
-    if start != "(" or sign not in _SIGNS or not isinstance(left, Formula) or not isinstance(right, Formula):
+    if start != "(" or sign not in SIGNS or not isinstance(left, Formula) or not isinstance(right, Formula):
         return None
     return Formula(sign, None, left, right)

@@ -1,6 +1,6 @@
 """Stores: boxes with formulas, which of them are enough to keep, and which losses are fatal."""
 
-from thirdback.checks import check_chosen, is_name
+from thirdback.checks import check_chosen, is_name, is_one_of
 from thirdback.errors import InvalidBoxes, InvalidFormulas, InvalidName, NotAStore, TooMany, UnknownName
 from thirdback.formulas import Formula, check_facts, check_formula, check_formulas
 from thirdback.kinds import check_kind
@@ -59,7 +59,7 @@ class Store:
         return self._formulas[name]
 
     def __contains__(self, name):
-        return isinstance(name, str) and name in self._formulas
+        return is_one_of(name, self._formulas)
 
     def __iter__(self):
         return iter(self._names)
@@ -105,27 +105,35 @@ def check_store(store):
         raise NotAStore(store)
 
 
-def _check_boxes(boxes):
-    """Raises InvalidBoxes for anything but a tuple of one to eight pairs (name, formula) with different names."""
-    if not isinstance(boxes, tuple) or len(boxes) == 0:
-        raise InvalidBoxes(None)
+def wrong_pair(pairs, most):
+    """The index of the first that is no pair (name, formula), has an earlier name or is one too many, else None."""
     names = []
-    for index, box in enumerate(boxes):
-        if index == MOST_BOXES or not _is_box(box) or box[0] in names:
-            raise InvalidBoxes(index)
-        names.append(box[0])
+    for index, pair in enumerate(pairs):
+        if index == most or not _is_pair(pair) or pair[0] in names:
+            return index
+        names.append(pair[0])
+    return None
 
 
-def _is_box(value):
-    """Whether it is a pair (name, formula)."""
-    return isinstance(value, tuple) and len(value) == 2 and is_name(value[0]) and isinstance(value[1], Formula)
-
-
-def _check_wanted(wanted):
+def check_wanted(wanted):
     """Raises InvalidFormulas for anything but a tuple of one to six formulas."""
     check_formulas(wanted)
     if len(wanted) == 0:
         raise InvalidFormulas(None)
+
+
+def _check_boxes(boxes):
+    """Raises InvalidBoxes for anything but a tuple of one to eight pairs (name, formula) with different names."""
+    if not isinstance(boxes, tuple) or len(boxes) == 0:
+        raise InvalidBoxes(None)
+    wrong = wrong_pair(boxes, MOST_BOXES)
+    if wrong is not None:
+        raise InvalidBoxes(wrong)
+
+
+def _is_pair(value):
+    """Whether it is a pair (name, formula)."""
+    return isinstance(value, tuple) and len(value) == 2 and is_name(value[0]) and isinstance(value[1], Formula)
 
 
 def _store_table(store, wanted):
@@ -136,7 +144,7 @@ def _store_table(store, wanted):
 def _keeps(store, wanted):
     """For each set of boxes, written as the sum of 2**i for their indexes i, whether it is a keep."""
     check_store(store)
-    _check_wanted(wanted)
+    check_wanted(wanted)
     # What is got does not depend on how many formulas the table has beside those in question.
     table = _store_table(store, wanted)
     formulas = [formula for _, formula in store.boxes]

@@ -10,15 +10,16 @@ class Table:
 
     def __init__(self, kind, facts, formulas):
         parts = all_parts([side for fact in facts for side in fact] + list(formulas))
-        numbers = {text: number for number, text in enumerate(parts)}
-        triples = [_part_triple(part, numbers) for part in parts.values() if part.name is None]
+        numbers = part_numbers(parts)
+        triples = operation_triples(parts)
         equal = [(numbers[str(one)], numbers[str(other)]) for one, other in facts]
-        classes = class_numbers(kind, len(parts), triples, equal)
+        classes, mergings = closed(kind, len(parts), triples, equal)
         self._kind = kind
-        self._letters = sorted([part.name for part in parts.values() if part.name is not None])
-        self._things = {text: classes[numbers[text]] for text in parts}
+        self._letters = [part.name for part in parts if part.name is not None]
+        self._things = {text: classes[number] for text, number in numbers.items()}
         self._count = len(set(classes))
-        self._triples = [(classes[first], classes[second], classes[mixed]) for first, second, mixed in triples]
+        self._triples = in_classes(triples, classes)
+        self._mergings = mergings
 
     def thing(self, formula):
         """The thing that this part is."""
@@ -28,9 +29,19 @@ class Table:
         """Whether the two parts are equal."""
         return self.thing(one) == self.thing(other)
 
+    def mergings(self):
+        """The tuple of the mergings that make the parts equal."""
+        return tuple(self._mergings)
+
     def got(self, kept):
         """What is got from these parts, see how_got."""
         return how_got(self._triples, [self.thing(formula) for formula in kept])
+
+    def steps_to(self, wanted, kept):
+        """The pairs (operation, place) by which the wanted part is got, the operations in their order as indexes."""
+        how = self.got(kept)
+        made = [how[thing] for thing in needed_things(how, self.thing(wanted))]
+        return tuple([(self._triples.index(triple), place) for place, triple in made])
 
     def shown(self):
         """The table as a beginning, and contents of all letters with which it holds."""
@@ -45,8 +56,7 @@ class Table:
             if thing not in shared:
                 copies[thing] = size
                 size = size + 1
-        copied = [(copies[first], copies[second], copies[mixed]) for first, second, mixed in self._triples]
-        beginning = Beginning(self._kind, size, tuple(self._triples + copied))
+        beginning = Beginning(self._kind, size, tuple(self._triples + in_classes(self._triples, copies)))
         return beginning, self._contents(list(range(self._count))), self._contents(copies)
 
     def _contents(self, copies):
@@ -54,19 +64,59 @@ class Table:
         return tuple([(name, copies[self._things[name]]) for name in self._letters])
 
 
-def class_numbers(kind, size, triples, equal):
-    """For each thing the number of its class of equal things in the closed table of these triples."""
-    labels = list(range(size))
+def all_parts(formulas):
+    """All different parts of the formulas, those with fewer operations first, then by their texts."""
+    found = {str(part): part for formula in formulas for part in formula.parts}
+    order = sorted([(len(part), text) for text, part in found.items()])
+    return [found[text] for _, text in order]
+
+
+def part_numbers(parts):
+    """A dict from the text of each part to its index."""
+    return {str(part): number for number, part in enumerate(parts)}
+
+
+def operation_triples(parts):
+    """The triples of all operations among the parts, in their order, of the indexes of the parts."""
+    numbers = part_numbers(parts)
+    return [signed_triple(part.sign, numbers[str(part.left)], numbers[str(part.right)], numbers[str(part)])
+            for part in parts if part.name is None]
+
+
+def turned(triple, turn):
+    """The image of the triple by the turn."""
+    return (triple[turn[0]], triple[turn[1]], triple[turn[2]])
+
+
+def in_classes(triples, classes):
+    """The triples with the class of each thing in its place."""
+    return [(classes[first], classes[second], classes[mixed]) for first, second, mixed in triples]
+
+
+def closed(kind, size, triples, equal):
+    """The closed table of these triples of so many things, some of which are equal.
+
+    Returns a list with the number of its class for each thing, and a list of the mergings that made the classes.
+    A merging is (i, turn, j, turn, place), or (i, turn, None, None, place) with a triple of a thing with itself.
+    """
+    classes = list(range(size))
     for one, other in equal:
-        labels = _merged(labels, one, other)
-    images = [image for triple in triples for image in kind.images(triple)]
-    images = images + [(thing, thing, thing) for thing in range(size) if kind.calm]
+        classes = merged(classes, one, other)
+    images = [(None, None, (thing, thing, thing)) for thing in range(size) if kind.calm]
+    images = images + [(index, turn, turned(triple, turn)) for index, triple in enumerate(triples) for turn in kind.lot]
+    mergings = []
     before = []
-    while labels != before:
-        before = labels
-        labels = _merged_once(labels, images)
-    order = sorted(set(labels))
-    return [order.index(label) for label in labels]
+    while classes != before:
+        before = classes
+        classes = _merged_once(classes, images, mergings)
+    order = sorted(set(classes))
+    return [order.index(name) for name in classes], mergings
+
+
+def merged(classes, one, other):
+    """The classes when these two things are equal, too."""
+    new, old = classes[one], classes[other]
+    return [new if name == old else name for name in classes]
 
 
 def how_got(triples, kept):
@@ -92,32 +142,28 @@ def how_got(triples, kept):
     return how
 
 
-def all_parts(formulas):
-    """All parts of the formulas by their texts, each behind those that it is made of."""
-    found = {}
-    for formula in formulas:
-        for part in formula.parts:
-            found[str(part)] = part
-    return found
+def needed_things(how, goal):
+    """The things that are to be made on the way to the goal, each behind those that it is made of."""
+    needed = {goal: True}
+    for thing in reversed(list(how)):
+        if thing in needed and how[thing] is not None:
+            place, triple = how[thing]
+            for at in range(3):
+                if at != place:
+                    needed[triple[at]] = True
+    return [made for made in how if made in needed and how[made] is not None]
 
 
-def _part_triple(part, numbers):
-    """The triple of an operation, in numbers."""
-    return signed_triple(part.sign, numbers[str(part.left)], numbers[str(part.right)], numbers[str(part)])
-
-
-def _merged(labels, one, other):
-    """The labels when these two things are equal, too."""
-    new, old = labels[one], labels[other]
-    return [new if label == old else label for label in labels]
-
-
-def _merged_once(labels, images):
-    """The labels when all triples have been gone through once."""
+def _merged_once(classes, images, mergings):
+    """The classes when all images have been gone through once; the mergings on the way are put behind the others."""
     seen = {}
     for image in images:
+        index, turn, things = image
         for place, (one, other) in enumerate(OTHERS):
-            thing = seen.setdefault((place, labels[image[one]], labels[image[other]]), image[place])
-            if labels[thing] != labels[image[place]]:
-                labels = _merged(labels, thing, image[place])
-    return labels
+            key = (place, classes[things[one]], classes[things[other]])
+            old_index, old_turn, old_things = seen.setdefault(key, image)
+            if classes[old_things[place]] != classes[things[place]]:
+                classes = merged(classes, old_things[place], things[place])
+                # Triples of things with themselves stand ahead of all others, so they are never the later ones.
+                mergings.append((index, turn, old_index, old_turn, place))
+    return classes
