@@ -64,7 +64,8 @@ def sets_of(names):
 def border_function(cell, count, lost):
     """The border function of the cells of a chain, laid out cell by cell; of no cells, too."""
     if count == 0:
-        return tuple([(sets_of(cell.ins).index([name for name in cell.ins if name in chosen or name in cell.begin]), True)
+        return tuple([(sets_of(cell.ins).index([name for name in cell.ins if name in chosen or name in cell.begin]),
+                       True)
                       for chosen in sets_of(cell.ins)])
     pairs = []
     for chosen in sets_of(cell.outs):
@@ -98,7 +99,8 @@ def first_clash(kind, ins, inner, outs, passed):
     def numbered(at, name):
         return (0, outs[ins.index(name)]) if at == 1 and name in ins else (at, name)
 
-    found = {(one, one, one) for at in (0, 1) for name in ins + inner + outs for one in [numbered(at, name)] if kind.calm}
+    found = {(one, one, one) for at in (0, 1) for name in ins + inner + outs for one in [numbered(at,
+                                                                                                  name)] if kind.calm}
     for index, triple in enumerate(passed):
         found |= slow.with_images(kind, [tuple(numbered(at, name) for name in triple) for at in (0, 1)])
         if slow.have_clash(found):

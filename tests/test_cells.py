@@ -14,7 +14,8 @@ PLAIN = Kind("plain")
 INS, INNER, OUTS = ("p", "r", "t"), ("x", "y", "z", "u", "v", "w"), ("q", "s", "o")
 EIGHT = (("p", "x", "q"), ("r", "y", "s"), ("t", "z", "o"), ("x", "y", "z"), ("u", "v", "w"), ("x", "u", "p"),
          ("w", "w", "y"), ("p", "x", "q"))
-PARTS = {"kind": PLAIN, "ins": INS, "inner": INNER, "outs": OUTS, "triples": EIGHT, "stored": ("q", "x", "w", "o", "y", "s"),
+PARTS = {"kind": PLAIN, "ins": INS, "inner": INNER, "outs": OUTS, "triples": EIGHT,
+         "stored": ("q", "x", "w", "o", "y", "s"),
          "wanted": ("o", "w", "v", "u", "z", "y", "x", "s", "q"), "begin": ("t", "p", "r"), "end": ("s", "q", "o")}
 ORDER = tuple(PARTS)
 BY_NAME = ("stored", "wanted", "begin", "end")
@@ -30,7 +31,8 @@ def names_of(right, wrong, *, limit=None, empty=True, repeated=True):
     if repeated:
         rows += [(right[:at] + (right[0],) + right[at + 1:], at) for at in range(1, len(right))]
     if limit is not None:
-        rows += [(right + (right[0],), limit), (right + ("a1",), limit), (right + (None, "X"), limit), (right * 3, limit)]
+        rows += [(right + (right[0],), limit), (right + ("a1",), limit), (right + (None, "X"), limit),
+                 (right * 3, limit)]
     if not empty:
         rows.append(((), None))
     return rows
@@ -47,7 +49,8 @@ WRONG = {
     "ins": indexed(InvalidNames, names_of(INS, NO_NAMES, limit=3)),
     "inner": indexed(InvalidNames, names_of(INNER, NO_NAMES + INS, limit=6)),
     "outs": indexed(InvalidNames, names_of(OUTS, NO_NAMES + INS + INNER) + [
-        ((), None), (("q",), None), (("q", "s"), None), (("q", "s", "o", "m"), None), (("q", "q"), None), ((1,) * 4, None)]),
+        ((), None), (("q",), None), (("q", "s"), None), (("q", "s", "o", "m"), None), (("q", "q"), None),
+        ((1,) * 4, None)]),
     "stored": indexed(InvalidNames, names_of(PARTS["stored"], unknown(*INNER, *OUTS), limit=6)),
     "wanted": indexed(InvalidNames, names_of(PARTS["wanted"], unknown(*INNER, *OUTS), empty=False) + [
         (PARTS["wanted"] + ("o",), 9), (PARTS["wanted"] + ("p", "o"), 9)]),
@@ -113,7 +116,8 @@ class MakingTest(unittest.TestCase):
                         assert_error(self, error, attribute, expected, lambda: Cell(*first, **named))
 
     def test_outs_are_counted_before_they_are_looked_at(self):
-        for outs, index in ((("p", 1, "x"), 0), (("q", 1), None), ((1, 2), None), ((), None), (("q", "s", "o", 1), None),
+        for outs, index in ((("p", 1, "x"), 0), (("q", 1), None), ((1, 2), None), ((), None),
+                            (("q", "s", "o", 1), None),
                             (("q", "s", "q"), 2), (("q", "p", "q"), 1), (("q", "x", "q"), 1)):
             assert_error(self, InvalidNames, "index", index, lambda: Cell(**{**PARTS, "outs": outs}))
 
@@ -156,7 +160,8 @@ class ClashTest(unittest.TestCase):
             for triples, expected in (
                     ((("x", "y", "z"), ("y", "x", "u")), 1 if kind.turns in ("sides", "all") else None),
                     ((("x", "y", "z"), ("y", "z", "u")), 1 if kind.turns in ("round", "all") else None),
-                    ((("x", "x", "y"),), 0 if kind.calm else None), ((("x", "y", "z"), ("p", "q", "p")), 1 if kind.calm else None),
+                    ((("x", "x", "y"),), 0 if kind.calm else None), ((("x", "y", "z"), ("p", "q", "p")),
+                                                                     1 if kind.calm else None),
                     ((("x", "x", "x"), ("y", "y", "y")), None)):
                 self.assertEqual(expected, slow_chains.clash_of(
                     kind, ("p",), ("x", "y", "z", "u"), ("q",), triples, stored=(), wanted=("x",)))
@@ -182,7 +187,8 @@ class RowTest(unittest.TestCase):
 
     def test_what_is_no_row(self):
         row = CELL.row
-        wrong = list(ODD_VALUES) + [CELL, list(row), row[:8], row + ((),), (PLAIN,) + row[1:], ("Plain",) + row[1:], (row,),
+        wrong = list(ODD_VALUES) + [CELL, list(row), row[:8], row + ((),), (PLAIN,) + row[1:], ("Plain",) + row[1:],
+                                    (row,),
                                     ("calm",) + row[1:], {at: part for at, part in enumerate(row)}, "", A, EQUAL_TO_ALL]
         for at, name in enumerate(ORDER):
             if name != "kind":

@@ -17,7 +17,8 @@ from thirdback.lengths import Lengths
 
 PLAIN = Kind("plain")
 CELL = Cell(PLAIN, ("p",), ("x",), ("q",), (("p", "x", "q"),), stored=("x", "q"), wanted=("x",), begin=("p",))
-CLOSED = Cell(PLAIN, ("p",), ("x",), ("q",), (("p", "x", "q"),), stored=("x", "q"), wanted=("x",), begin=("p",), end=("q",))
+CLOSED = Cell(PLAIN, ("p",), ("x",), ("q",), (("p", "x", "q"),), stored=("x", "q"), wanted=("x",), begin=("p",),
+              end=("q",))
 NO_CELLS = ODD_VALUES + (A, PLAIN, Cell, CELL.row, (CELL,), [CELL])
 WRONG_CELL = given(NotACell, NO_CELLS)
 NO_COUNTS = tuple([value for value in ODD_VALUES if isinstance(value, bool) or value not in (1, 7)]) + (
@@ -112,13 +113,15 @@ class UntoldTest(unittest.TestCase):
 
     def test_known_at_the_begin_and_at_the_end(self):
         for begin, end, expected in (((), (), (0, 1, 2)), (("p",), (), ()), ((), ("q",), ()), (("p",), ("q",), ())):
-            cell = Cell(PLAIN, ("p",), ("x",), ("q",), (("p", "x", "q"),), stored=("x",), wanted=("q",), begin=begin, end=end)
+            cell = Cell(PLAIN, ("p",), ("x",), ("q",), (("p", "x", "q"),), stored=("x",), wanted=("q",), begin=begin,
+                        end=end)
             self.assertEqual(tuple([(at, "q") for at in expected]), untold(cell, 3, ()))
 
     def test_wrong_arguments_in_order(self):
         right = tuple([(at, name) for at in range(4) for name in ("q", "x")])
         no_things = ODD_VALUES + ((0,), (0, "p"), (0, "y"), (0, "q", 1), [0, "q"], ("q", 0), (True, "q"), (False, "q"),
-                                  (-1, "q"), (4, "q"), (MANY_DIGITS, "x"), ("0", "q"), (None, "q"), (0, None), (0, ("q",)),
+                                  (-1, "q"), (4, "q"), (MANY_DIGITS, "x"), ("0", "q"), (None, "q"), (0, None),
+                                  (0, ("q",)),
                                   (0, EQUAL_TO_ALL), (EQUAL_TO_ALL, "q"), ((0, "q"),), (0, ["q"]), CELL)
         rows = [(value, None) for value in NO_TUPLES + ([(0, "q")], {(0, "q"): 1}, "q", CELL)]
         rows += [((value,), 0) for value in no_things]
@@ -167,7 +170,8 @@ class BreakTest(unittest.TestCase):
                 self.assertTrue(1 <= count <= 10)
                 self.assert_harms(cell, count, lost)
                 self.assertEqual(len(lost), min([len(other) for other in least if other is not None]))
-                self.assertEqual(count, 1 + [other is not None and len(other) == len(lost) for other in least].index(True))
+                as_few = [other is not None and len(other) == len(lost) for other in least]
+                self.assertEqual(count, 1 + as_few.index(True))
                 counts[count] += 1
         self.assertTrue({None, 1, 2} <= set(counts))
 

@@ -54,7 +54,8 @@ class MakingTest(unittest.TestCase):
     def test_written_out(self):
         for text, expected in (("(0)", "(0)"), ("0000(000)", "(0)"), ("01(11)", "0(1)"), ("01(0101)", "(01)"),
                                ("1(01)", "(10)"), ("11(01)", "1(10)"), ("0(10)", "(01)"), ("001(001001)", "(001)"),
-                               ("1(001)", "(100)"), ("01(001)", "(010)"), ("1001(0011)", "100(1001)"), ("111(1)", "(1)"),
+                               ("1(001)", "(100)"), ("01(001)", "(010)"), ("1001(0011)", "100(1001)"),
+                               ("111(1)", "(1)"),
                                ("10110(110)", "(101)"), ("0" * 1500 + "(" + "0" * 1500 + ")", "(0)"),
                                ("01" * 900 + "(" + "01" * 900 + ")", "(01)"),
                                ("1" * 1999 + "0(" + "1" * 1999 + "0)", "(" + "1" * 1999 + "0)")):
@@ -177,8 +178,8 @@ class SignTest(unittest.TestCase):
 class PlaceTest(unittest.TestCase):
     def test_everything_stands_in_its_class_and_file(self):
         self.assertEqual("thirdback.lengths", module.Lengths.__module__)
-        for name in ("read", "head", "tail", "__str__", "__eq__", "__bool__", "__contains__", "up_to", "__and__", "__or__",
-                     "__sub__", "__invert__"):
+        for name in ("read", "head", "tail", "__str__", "__eq__", "__bool__", "__contains__", "up_to", "__and__",
+                     "__or__", "__sub__", "__invert__"):
             self.assertIn(name, vars(Lengths))
 
     def test_example_of_the_document(self):

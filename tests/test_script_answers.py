@@ -120,7 +120,8 @@ class ReachableTest(unittest.TestCase):
                 (("s = a * a", "same s a 3", "a = b"), None)):
             for kind in KINDS:
                 if expected is None:
-                    self.assertEqual((0, 1, 3) if kind.calm else (0, 1, 2, 3), reachable(Script(kind, ("a", "b", "s"), rows)))
+                    self.assertEqual((0, 1, 3) if kind.calm else (0, 1, 2, 3),
+                                     reachable(Script(kind, ("a", "b", "s"), rows)))
                 else:
                     self.assertEqual(expected, reachable(Script(kind, ("a", "b", "s"), rows)))
         turned = ("s = a * b", "t = b * a", "same s t 4", "go 5", "a = b")
@@ -293,7 +294,8 @@ class GivesBackTest(unittest.TestCase):
         for kind in KINDS:
             script = Script(kind, ("a", "b", "s"), ("s = a * b",))
             for kept, wanted, expected in (
-                    (("s", "b"), "a", True), (("a", "s"), "b", True), (("a", "b", "s"), "s", False), (("s",), "a", False),
+                    (("s", "b"), "a", True), (("a", "s"), "b", True), (("a", "b", "s"), "s", False),
+                    (("s",), "a", False),
                     ((), "a", False), (("a",), "a", True), (("a", "b"), "a", True), (("b",), "a", False)):
                 self.assertIs(expected, gives_back(script, kept, wanted))
             square = Script(kind, ("a",), ("a = a * a",))
@@ -311,7 +313,8 @@ class ExampleTest(unittest.TestCase):
         self.assertEqual(
             [True, [(0, 1), (0, 1, 2)], (0, 1, 2, 3, 4), True, True, False],
             [Script.read(str(SCRIPT)) == SCRIPT, list(SCRIPT.ways(3)), reachable(SCRIPT),
-             surely_same(SCRIPT, 3, "a", "b"), gives_back(SCRIPT, ("a", "b"), "a"), gives_back(SCRIPT, ("a", "b"), "s")])
+             surely_same(SCRIPT, 3, "a", "b"), gives_back(SCRIPT, ("a", "b"), "a"),
+             gives_back(SCRIPT, ("a", "b"), "s")])
         self.assertEqual(((0, 1, 2, 3), (1, 2, 2)), run(SCRIPT, third, (1, 2, 0)))
 
 

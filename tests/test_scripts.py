@@ -11,7 +11,8 @@ from common import (
 from thirdback import scripts as module
 from thirdback.beginnings import Beginning
 from thirdback.errors import (
-    InvalidContents, InvalidIndex, InvalidNames, InvalidRows, InvalidText, Lacking, NotABeginning, NotAScript, OtherKind)
+    InvalidContents, InvalidIndex, InvalidNames, InvalidRows, InvalidText, Lacking, NotABeginning, NotAScript,
+    OtherKind)
 from thirdback.kinds import Kind
 from thirdback.scripts import Script, run
 
@@ -44,7 +45,8 @@ WRONG_BOXES = indexed(InvalidNames, (
     + [(("a", "b", "s", "t", "u")[:at] + (value,) + ("x", "y", "z"), at) for at in range(6) for value in NO_NAMES[::6]]
     + [(("a", "b", "s", "t", "u")[:at] + ("a", "x"), at) for at in range(1, 6)]
     + [(("a", "b", "s", "t", "u", "v", "w"), 6), (("a", "b", "s", "t", "u", "v", "a"), 6), (("A",) * 7, 0),
-       (("a", "b", "s", "t", "u", "v", "W", "x"), 6), (("a", "b", "a", "W"), 2), (("a", "b", "s", "t", "u", "u", 1), 5)]))
+       (("a", "b", "s", "t", "u", "v", "W", "x"), 6), (("a", "b", "a", "W"), 2),
+       (("a", "b", "s", "t", "u", "u", 1), 5)]))
 
 
 class MakingTest(unittest.TestCase):
@@ -68,7 +70,8 @@ class MakingTest(unittest.TestCase):
 
     def test_words_of_rows_as_names_of_boxes(self):
         boxes = ("go", "same", "unlike", "a")
-        rows = ("go = a", "same = go * unlike", "same go same 5", "unlike same unlike 6", "go 5", "unlike = same // same")
+        rows = ("go = a", "same = go * unlike", "same go same 5", "unlike same unlike 6", "go 5",
+                "unlike = same // same")
         script = Script(PLAIN, boxes, rows)
         self.assertEqual([(0, 1, 2), (0, 1, 2, 3, 4)], list(script.ways(5)))
         assert_error(self, InvalidRows, "index", 0, lambda: Script(PLAIN, boxes, ("same go same 1",)))
@@ -78,7 +81,8 @@ class MakingTest(unittest.TestCase):
         for count in range(1, 13):
             for at in range(count):
                 for goal in range(-1, count + 3):
-                    for row, least in ((f"go {goal}", at + 1), (f"same a b {goal}", at + 2), (f"unlike a b {goal}", at + 2)):
+                    for row, least in ((f"go {goal}", at + 1), (f"same a b {goal}", at + 2),
+                                       (f"unlike a b {goal}", at + 2)):
                         rows = ("a = b",) * at + (row,) + ("a = b",) * (count - at - 1)
                         if least <= goal <= count:
                             self.assertEqual(rows, Script(PLAIN, BOXES, rows).rows)
@@ -104,7 +108,8 @@ class MakingTest(unittest.TestCase):
                 assert_error(self, InvalidRows, "index", places[4], lambda: Script(PLAIN, BOXES, tuple(rows)))
                 assert_error(self, InvalidRows, "index", places[4], lambda: Script(
                     PLAIN, BOXES, tuple(rows[:places[4] + 1] + [None] * (11 - places[4]))))
-        assert_error(self, InvalidRows, "index", 4, lambda: Script(PLAIN, BOXES, ("same a b 13",) * 11 + ("a = b",) * 3))
+        longer = ("same a b 13",) * 11 + ("a = b",) * 3
+        assert_error(self, InvalidRows, "index", 4, lambda: Script(PLAIN, BOXES, longer))
 
     def test_wrong_arguments_in_order(self):
         rows = [(value, None) for value in NO_TUPLES + ((), ["a = b"], "a = b", {"a = b": 1})]
@@ -230,7 +235,7 @@ class WaysTest(unittest.TestCase):
     def test_no_index(self):
         for script, end in ((SCRIPT, 4), (LONG, 12)):
             self.assertEqual(list(script.ways(end)), slow_scripts.ways(script.rows, end))
-            for value in [value for value in ODD_VALUES if value not in (0, 1, 7) or value is True or value is False] + [
+            for value in [value for value in ODD_VALUES if isinstance(value, bool) or value not in (0, 1, 7)] + [
                     -1, end + 1, MANY_DIGITS, "0", "1", (0,), [1], SCRIPT, None, EQUAL_TO_ALL]:
                 with self.subTest(value):
                     assert_error(self, InvalidIndex, "given", value, lambda: next(script.ways(value)))
@@ -299,7 +304,8 @@ class RunTest(unittest.TestCase):
         rule = Beginning(PLAIN, 3, ((0, 0, 0), (0, 1, 2), (0, 2, 1), (1, 0, 1), (1, 1, 0), (1, 2, 2), (2, 0, 2),
                                     (2, 1, 1), (2, 2, 0)))
         no_things = (None, True, False, -1, 3, MANY_DIGITS, "0", (), (0,), [0], {}, A, EQUAL_TO_ALL)
-        rows = [(value, None) for value in NO_TUPLES + ((), (0,), (0, 1), (0, 1, 2, 0), (None,), (None,) * 4, [0, 1, 2])]
+        lengths = ((), (0,), (0, 1), (0, 1, 2, 0), (None,), (None,) * 4, [0, 1, 2])
+        rows = [(value, None) for value in NO_TUPLES + lengths]
         rows += [((0, 1, 2)[:at] + (value,) + (0, 1, 2)[at + 1:], at) for at in range(3) for value in no_things]
         rows += [((0, 3, None), 1), ((True, None, 3), 0)]
         others = [Beginning(kind, 3) for kind in KINDS[1:]]

@@ -23,7 +23,7 @@ class Cell:
         if isinstance(outs, tuple) and len(outs) != len(ins):
             raise InvalidNames(None)
         check_names(outs, MOST_SIDE, ins + inner)
-        _check_triples(triples, ins + inner + outs)
+        _check_name_triples(triples, ins + inner + outs)
         check_chosen(stored, inner + outs, MOST_STORED)
         check_chosen(wanted, inner + outs)
         if len(wanted) == 0:
@@ -197,7 +197,7 @@ def _is_stored(cell, count, value):
             and is_one_of(value[1], cell.stored))
 
 
-def _check_triples(triples, names):
+def _check_name_triples(triples, names):
     """Raises InvalidTriples for anything but a tuple of at most eight triples of these names."""
     if not isinstance(triples, tuple):
         raise InvalidTriples(None)
@@ -213,9 +213,10 @@ def _check_clash(cell):
     numbers = {thing: number for number, thing in enumerate(all_things(cell, 2))}
     triples = [tuple([numbers[thing] for thing in triple]) for triple in all_triples(cell, 2)]
     half = len(cell.triples)
-    both = [triple for pair in zip(triples[:half], triples[half:]) for triple in pair]
+    both = tuple([triple for pair in zip(triples[:half], triples[half:]) for triple in pair])
+    size = len(numbers)
     try:
-        Beginning(cell.kind, len(numbers), tuple(both))
+        Beginning(cell.kind, size, both)
     except Clash as clash:
         raise Clash(clash.index // 2)
 

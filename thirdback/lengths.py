@@ -117,7 +117,7 @@ def _joined(one, other, results):
         raise NotLengths(other)
     ahead = max(len(one.head), len(other.head))
     count = ahead + lcm(len(one.tail), len(other.tail))
-    pairs = [int(_digit(one, value) + _digit(other, value), 2) for value in range(1, count + 1)]
+    pairs = [2 * int(_digit(one, value)) + int(_digit(other, value)) for value in range(1, count + 1)]
     text = "".join([results[pair] for pair in pairs])
     return Lengths(text[:ahead], text[ahead:])
 

@@ -20,7 +20,7 @@ def mends(store, wanted, changes, number):
     found = []
     for chosen in _smaller_sets_first(len(changes)):
         # More changes can also make a store weaker, so parts of all sizes are looked for.
-        if not any([_holds(chosen, part) for part in found]):
+        if not any([_has_part(chosen, part) for part in found]):
             if strength(_mended(store, changes, chosen), wanted) >= number:
                 found.append(chosen)
     return tuple(found)
@@ -41,7 +41,7 @@ def _smaller_sets_first(count):
     return [chosen for _, chosen in sorted([(len(chosen), chosen) for chosen in sets])]
 
 
-def _holds(chosen, part):
+def _has_part(chosen, part):
     """Whether all indexes of the part are chosen."""
     return all([index in chosen for index in part])
 

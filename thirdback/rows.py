@@ -45,6 +45,11 @@ def read_rows(rows, boxes):
     return tuple(steps)
 
 
+def first_things(boxes, size):
+    """A dict with a new thing for each box, there being so many things already."""
+    return {box: size + at for at, box in enumerate(boxes)}
+
+
 def all_ways(steps, row):
     """The ascending list of all ways to this index."""
     ways = []

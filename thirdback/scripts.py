@@ -5,7 +5,7 @@ from thirdback.checks import check_boxes, check_chosen, is_number, is_one_of
 from thirdback.errors import (
     InvalidContents, InvalidIndex, InvalidNames, InvalidRows, InvalidText, NotAScript, OtherKind, UnknownName)
 from thirdback.kinds import Kind, check_kind
-from thirdback.rows import all_ways, played, read_rows, walked
+from thirdback.rows import all_ways, first_things, played, read_rows, walked
 from thirdback.tables import closed, in_classes
 
 class Script:
@@ -27,8 +27,9 @@ class Script:
         lines = text.split("\n")
         if len(lines) < 3:
             raise InvalidText(text)
+        boxes, rows = tuple(lines[1].split(" ")), tuple(lines[2:])
         try:
-            return cls(Kind.read(lines[0]), tuple(lines[1].split(" ")), tuple(lines[2:]))
+            return cls(Kind.read(lines[0]), boxes, rows)
         except (InvalidText, InvalidNames, InvalidRows):
             raise InvalidText(text)
 
@@ -54,7 +55,7 @@ class Script:
 
     def ways(self, row):
         """All ways to this index, possible or not, in ascending order."""
-        _check_row(self, row)
+        check_row(self, row)
         for way in all_ways(self._steps, row):
             yield way
 
@@ -75,7 +76,7 @@ def run(script, beginning, things):
     check_beginning(beginning)
     if beginning.kind != script.kind:
         raise OtherKind(beginning)
-    _check_things(script, beginning, things)
+    _check_first_things(script, beginning, things)
     held = {box: thing for box, thing in zip(script.boxes, things)}
     way, held, _ = played(script.steps, beginning, held, len(script))
     return way, tuple([held[box] for box in script.boxes])
@@ -90,7 +91,7 @@ def reachable(script):
 def reaching(script, row):
     """None if the index cannot be reached, otherwise a beginning and first contents that come to it."""
     check_script(script)
-    _check_row(script, row)
+    check_row(script, row)
     possible = _possible_walks(script, row)
     if len(possible) == 0:
         return None
@@ -102,7 +103,7 @@ def reaching(script, row):
 def surely_same(script, row, one, other):
     """Whether the two boxes hold the same thing whenever the script comes to this index."""
     check_script(script)
-    _check_row(script, row)
+    check_row(script, row)
     _check_box(script, one)
     _check_box(script, other)
     possible = _possible_walks(script, row)
@@ -118,7 +119,7 @@ def same_ends(script, another, boxes):
     if another.boxes != script.boxes:
         raise InvalidNames(None)
     check_chosen(boxes, script.boxes)
-    first = _first_things(script.boxes, 0)
+    first = first_things(script.boxes, 0)
     for walk in _end_walks(script, first, len(first)):
         for other in _end_walks(another, first, len(first) + len(walk.operations)):
             classes = _classes_together(script.kind, len(first), (walk, other), [])
@@ -134,8 +135,8 @@ def gives_back(script, kept, wanted):
     check_script(script)
     check_chosen(kept, script.boxes)
     _check_box(script, wanted)
-    first = _first_things(script.boxes, 0)
-    second = _first_things(script.boxes, len(first))
+    first = first_things(script.boxes, 0)
+    second = first_things(script.boxes, len(first))
     size = len(first) + len(second)
     for walk in _end_walks(script, first, size):
         for other in _end_walks(script, second, size + len(walk.operations)):
@@ -152,7 +153,7 @@ def check_script(script):
         raise NotAScript(script)
 
 
-def _check_row(script, row):
+def check_row(script, row):
     """Raises InvalidIndex for anything but the index of a row or of the end."""
     if not is_number(row, 0, len(script)):
         raise InvalidIndex(row)
@@ -164,18 +165,13 @@ def _check_box(script, name):
         raise UnknownName(name)
 
 
-def _check_things(script, beginning, things):
+def _check_first_things(script, beginning, things):
     """Raises InvalidContents for anything but a tuple of a thing for each box."""
     if not isinstance(things, tuple) or len(things) != len(script.boxes):
         raise InvalidContents(None)
     for index, thing in enumerate(things):
         if not is_thing(beginning.size, thing):
             raise InvalidContents(index)
-
-
-def _first_things(boxes, size):
-    """First contents that are new things, there being so many already."""
-    return {box: size + at for at, box in enumerate(boxes)}
 
 
 def _end_walks(script, held, size):
@@ -186,7 +182,7 @@ def _end_walks(script, held, size):
 
 def _possible_walks(script, row):
     """For each possible way to the index a pair of its walk and the classes of its things."""
-    first = _first_things(script.boxes, 0)
+    first = first_things(script.boxes, 0)
     found = []
     for way in all_ways(script.steps, row):
         walk = walked(script.steps, way, row, first, len(first))

@@ -99,6 +99,12 @@ def strength(store, wanted):
     return min([len(loss) for loss in least_losses(store, wanted)]) - 1
 
 
+def boxes_tell(store, names, wanted):
+    """Whether these boxes tell the formula."""
+    table = _store_table(store, (wanted,))
+    return table.thing(wanted) in table.got([store[name] for name in names])
+
+
 def check_store(store):
     """Raises NotAStore for anything but a Store."""
     if not isinstance(store, Store):
