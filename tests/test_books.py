@@ -163,6 +163,7 @@ class WishTest(unittest.TestCase):
         wrong = list(ODD_VALUES) + [A, STORE, EQUAL_TO_ALL, ("strong",), ("strong", "shelf"), ("strong", "shelf", (A,))]
         words = ODD_VALUES + ("Strong", "strong ", "tell", "never", "withstands", EQUAL_TO_ALL)
         wrong += [(word, "shelf", (A,), 1) for word in words]
+        wrong += [(word, "rows", 1) for word in ODD_VALUES + ("Never", "never ", "strong", "tells", EQUAL_TO_ALL)]
         wrong += [("strong", "shelf", (A,), number) for number in no_numbers + (8,)]
         no_wanted = NO_TUPLES + ((), SIX + (A,), [A], A, (None,), (A, "b"), ("a",), (A, 1))
         wrong += [("strong", "shelf", wanted, 1) for wanted in no_wanted]

@@ -51,7 +51,8 @@ WRONG = {
     "outs": indexed(InvalidNames, names_of(OUTS, NO_NAMES + INS + INNER) + [
         ((), None), (("q",), None), (("q", "s"), None), (("q", "s", "o", "m"), None), (("q", "q"), None),
         ((1,) * 4, None)]),
-    "stored": indexed(InvalidNames, names_of(PARTS["stored"], unknown(*INNER, *OUTS), limit=6)),
+    "stored": indexed(InvalidNames, names_of(PARTS["stored"], unknown(*INNER, *OUTS), limit=6) + [
+        (PARTS["stored"] + ("z",), 6), (PARTS["stored"] + ("z", "u", "v"), 6), (INNER + OUTS, 6)]),
     "wanted": indexed(InvalidNames, names_of(PARTS["wanted"], unknown(*INNER, *OUTS), empty=False) + [
         (PARTS["wanted"] + ("o",), 9), (PARTS["wanted"] + ("p", "o"), 9)]),
     "begin": indexed(InvalidNames, names_of(PARTS["begin"], unknown(*INS)) + [(INS + ("p",), 3), (INS + ("x",), 3)]),

@@ -113,6 +113,25 @@ class RightTest(unittest.TestCase):
         self.assertIs(True, accepts(("can", script, 0), (1, (), (0,))))
         self.assertIs(False, accepts(("can", script, 0), (0, (), (0,))))
 
+    def test_each_way_once(self):
+        rows = ("same a b 2", "s = a * b", "unlike a a 5", "go 6", "s = b", "s = a")
+        for kind in KINDS:
+            claim, certificate = certify_index(Script(kind, ("a", "b", "s"), rows), 5)
+            self.assertEqual([(0, 1, 2), (0, 2)], [part[0] for part in certificate])
+            self.assertIs(True, accepts(claim, certificate[::-1]))
+            for part in certificate:
+                self.assertIs(False, accepts(claim, (part, part)))
+            self.assertIs(False, accepts(claim, certificate[:1] + certificate))
+            self.assertIs(False, accepts(claim, certificate[1:]))
+
+    def test_things_of_any_kind(self):
+        claim, certificate = certify_chains(CLOSED, 3)
+        for value in ([], ["q"], {}, {1}, EQUAL_TO_ALL, None, True, 0, ("q",), b"q"):
+            for thing in ((0, value), (value, "q"), value, [0, "q"]):
+                self.assertIs(False, accepts(claim, certificate[:-1] + (thing,)))
+                self.assertIs(False, accepts(claim, (thing,)))
+                self.assertIs(False, accepts(claim[:3] + ((thing,),), certificate))
+
     def test_values_behind_the_index_need_not_be_known(self):
         script = "plain\na b\nb = a\na = a * b"
         self.assertIs(True, accepts(("can", script, 1), (2, (), (0, 1))))

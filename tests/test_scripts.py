@@ -89,6 +89,14 @@ class MakingTest(unittest.TestCase):
                         else:
                             assert_error(self, InvalidRows, "index", at, lambda: Script(PLAIN, BOXES, rows))
 
+    def test_no_leading_zeros(self):
+        for word in ("go", "same a b", "unlike a b"):
+            for number in ("03", "003", "0", "00", "0003"):
+                rows = ("a = b", f"{word} {number}") + ("a = b",) * 10
+                assert_error(self, InvalidRows, "index", 1, lambda: Script(PLAIN, BOXES, rows))
+            rows = ("a = b", f"{word} 3") + ("a = b",) * 10
+            self.assertEqual(rows, Script(PLAIN, BOXES, rows).rows)
+
     def test_goals_are_compared_with_the_number_of_elements_passed(self):
         for rows, index in ((("go 13",) + ("a = b",) * 12, 12), (("go 14",) + ("a = b",) * 12, 0),
                             (("same a b 40",) + ("a = b",) * 39, 12), (("go 5", 1, 2, 3, 4), 1),

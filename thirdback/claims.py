@@ -1,6 +1,6 @@
 """Claims about formulas: the texts of a claim, read, and what a certificate says of them."""
 
-from thirdback.beginnings import Beginning, is_thing
+from thirdback.beginnings import Beginning
 from thirdback.errors import InvalidFacts, InvalidFormulas
 from thirdback.formulas import Formula
 from thirdback.kinds import Kind
@@ -36,14 +36,13 @@ class Question:
     def values_with(self, size, triples, contents):
         """A dict from the text of each part to its value with these contents in the beginning with these triples.
 
-        None if they are no contents of just the letters, if a value is not known, or if a fact does not hold.
+        None if they are not those of just the letters, if a value is not known, or if a fact does not hold; some
+        WrongValue is raised if they are no contents at all.
         """
         beginning = Beginning(self._kind, size, triples)
-        letters = [part.name for part in self._parts if part.name is not None]
-        if not _are_contents(contents, letters, size):
-            return None
         values = {str(part): beginning.value(part, contents) for part in self._parts}
-        if any([values[text] is None for text in values]):
+        letters = [part.name for part in self._parts if part.name is not None]
+        if [name for name, _ in contents] != letters or any([values[text] is None for text in values]):
             return None
         if any([values[str(one)] != values[str(other)] for one, other in self._facts]):
             return None
@@ -64,12 +63,3 @@ def _checked_facts(facts):
     if not all([isinstance(fact, tuple) and len(fact) == 2 for fact in facts]):
         raise InvalidFacts(None)
     return facts
-
-
-def _are_contents(value, letters, size):
-    """Whether it is a tuple of pairs of just these letters, in their order, and things."""
-    if not isinstance(value, tuple) or not all([isinstance(pair, tuple) and len(pair) == 2 for pair in value]):
-        return False
-    if not all([isinstance(name, str) and is_thing(size, thing) for name, thing in value]):
-        return False
-    return [name for name, _ in value] == letters

@@ -147,10 +147,9 @@ def needed_things(how, goal):
     needed = {goal: True}
     for thing in reversed(list(how)):
         if thing in needed and how[thing] is not None:
-            place, triple = how[thing]
-            for at in range(3):
-                if at != place:
-                    needed[triple[at]] = True
+            _, triple = how[thing]
+            for part in triple:
+                needed[part] = True
     return [made for made in how if made in needed and how[made] is not None]
 
 
