@@ -22,10 +22,6 @@ class Borders:
         begin = _number(self._cell.begin, self._cell.ins)
         return tuple([(number | begin, True) for number in range(1 << len(self._cell.ins))])
 
-    def losses(self):
-        """A list of the pairs (how many they are, number) of all sets of stored names, smaller ones first."""
-        return list(self._losses)
-
     def after(self, function, lost):
         """The border function of one cell more, in which these stored names are lost."""
         return tuple([self._pair(function, lost, outs) for outs in range(len(function))])

@@ -128,7 +128,7 @@ def least_break(cell, count):
     if len(broken) == 0:
         return None
     fewest = min([levels[-1][function][0] for function in broken])
-    function = [function for function in broken if levels[-1][function][0] == fewest][0]
+    function = [last for last in broken if levels[-1][last][0] == fewest][0]
     lost = []
     for at in reversed(range(count)):
         _, function, number = levels[at + 1][function]

@@ -8,6 +8,7 @@ from thirdback.kinds import Kind, check_kind
 from thirdback.rows import all_ways, first_things, played, read_rows, walked
 from thirdback.tables import closed, in_classes
 
+
 class Script:
     """Boxes of a kind, and rows that are done one after the other. Scripts never change."""
 

@@ -109,8 +109,8 @@ def closed(kind, size, triples, equal):
     while classes != before:
         before = classes
         classes = _merged_once(classes, images, mergings)
-    order = sorted(set(classes))
-    return [order.index(name) for name in classes], mergings
+    numbers = {name: number for number, name in enumerate(sorted(set(classes)))}
+    return [numbers[name] for name in classes], mergings
 
 
 def merged(classes, one, other):

@@ -1,6 +1,6 @@
 """Vaults: boxes that hold things of a rule which is made as it is needed."""
 
-from thirdback.beginnings import Beginning, signed_value
+from thirdback.beginnings import Beginning
 from thirdback.checks import check_boxes, is_one_of
 from thirdback.errors import NothingToUndo, TooMany, UnknownName
 from thirdback.formulas import check_formula, signed_triple
@@ -64,8 +64,11 @@ class Vault:
             if name not in self:
                 raise UnknownName(name)
         state = self._state
-        part, thing = _worked_out(state.part, formula, state.things)
-        things = {name: thing if name == box else state.things[name] for name in self._boxes}
+        contents = tuple(sorted([(name, thing) for name, thing in state.things.items()]))
+        part = _grown(state.part, formula, contents)
+        if part.size > MOST_GROWN:
+            raise TooMany(MOST_GROWN)
+        things = {**state.things, box: part.value(formula, contents)}
         self._state = State(part, things, (box, str(formula)), state)
 
     def __contains__(self, value):
@@ -112,14 +115,12 @@ class VaultTrial:
         vault._state = self._state
 
 
-def _worked_out(part, formula, things):
-    """The beginning, grown where it lacks a triple, and the value of the formula in it."""
+def _grown(part, formula, contents):
+    """The beginning, grown by what it lacks for the value of the formula."""
     if formula.name is not None:
-        return part, things[formula.name]
-    part, left = _worked_out(part, formula.left, things)
-    part, right = _worked_out(part, formula.right, things)
+        return part
+    part = _grown(part, formula.left, contents)
+    part = _grown(part, formula.right, contents)
+    left, right = part.value(formula.left, contents), part.value(formula.right, contents)
     first, second, mixed = signed_triple(formula.sign, left, right, None)
-    part = part.grown(first, second, mixed)
-    if part.size > MOST_GROWN:
-        raise TooMany(MOST_GROWN)
-    return part, signed_value(part, formula.sign, left, right)
+    return part.grown(first, second, mixed)
