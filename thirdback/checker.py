@@ -3,7 +3,7 @@
 from thirdback.beginnings import Beginning, is_thing
 from thirdback.borders import Borders
 from thirdback.chains import Cell, check_count, check_lost
-from thirdback.checks import is_integer, is_number, is_one_of
+from thirdback.checks import is_integer, is_number
 from thirdback.claims import Question, checked_kept
 from thirdback.errors import Lacking, WrongValue
 from thirdback.kinds import OTHERS
@@ -139,9 +139,9 @@ _FORMS = {
 
 def accepts(claim, certificate):
     """Whether it is a claim for the checker, and the certificate is one for it."""
-    if not isinstance(claim, tuple) or len(claim) == 0 or not is_one_of(claim[0], _COUNTS):
+    if not isinstance(claim, tuple) or len(claim) == 0 or not isinstance(claim[0], str):
         return False
-    if len(claim) != _COUNTS[claim[0]]:
+    if claim[0] not in _COUNTS or len(claim) != _COUNTS[claim[0]]:
         return False
     form = _FORMS[claim[0]]
     try:
